@@ -1,0 +1,1 @@
+"""Values that never change, run with counts of holders."""

@@ -1,0 +1,169 @@
+"""The part of LANGUAGE.md that can be seen from the syntax alone, for each file of the package."""
+
+import ast
+import builtins
+import pathlib
+import re
+import unittest
+
+PACKAGE = pathlib.Path(__file__).resolve().parent.parent / "reusewise"
+
+NODES = """
+Module FunctionDef ClassDef arguments arg Assign AugAssign If While For Return Break Continue Pass Raise Try
+ExceptHandler Expr ImportFrom alias Constant List Tuple Dict Set Name Attribute Subscript Slice Call keyword
+BinOp UnaryOp BoolOp Compare IfExp ListComp comprehension Lambda JoinedStr FormattedValue Load Store
+Add Sub Mult FloorDiv Mod Pow BitAnd BitOr BitXor LShift RShift Invert USub UAdd Not And Or
+Eq NotEq Lt LtE Gt GtE Is IsNot In NotIn
+""".split()
+OWN_NAMES = """
+len range enumerate zip min max sum abs sorted reversed int str bool list tuple dict set frozenset isinstance ord
+repr any all divmod ValueError KeyError IndexError LookupError ZeroDivisionError ArithmeticError OverflowError
+RuntimeError NotImplementedError StopIteration Exception AttributeError TypeError
+""".split()
+OWN_METHODS = """
+append clear copy count endswith extend find get index insert isalnum isalpha isdigit islower isspace isupper items
+join keys ljust lower lstrip partition pop remove replace reverse rfind rjust rpartition rsplit rstrip setdefault
+split splitlines startswith strip update upper values zfill bit_length
+""".split()
+DOUBLE = ["__init__", "__eq__", "__repr__", "__str__", "__len__", "__all__", "__version__", "__name__"]
+NOWHERE = """
+type typing typing_extensions enum Enum IntEnum StrEnum Flag IntFlag Generic Protocol ABC ABCMeta namedtuple
+NamedTuple TypedDict TYPE_CHECKING abstractmethod
+""".split()
+NOT_USED = """
+register mro elements open input version_info with_traceback add_note attrgetter breakpoint builtins compile
+copyright credits delattr dir eval exec exit gc getattr globals hasattr help id importlib license locals
+methodcaller os quit setattr super vars sys format format_map chr print float bytes object
+""".split()
+
+
+def files():
+    return sorted(path for path in PACKAGE.rglob("*") if "__pycache__" not in path.parts)
+
+
+def sources():
+    return [(path.name, path.read_text("utf-8")) for path in files()]
+
+
+def nodes(*kinds):
+    """Each node of these kinds in the package, with its file and line."""
+    for name, source in sources():
+        for node in ast.walk(ast.parse(source)):
+            if isinstance(node, kinds):
+                yield node, f"{name}:{getattr(node, 'lineno', 0)}"
+
+
+def names_bound():
+    for node, where in nodes(ast.FunctionDef, ast.ClassDef):
+        yield node.name, where
+    for node, where in nodes(ast.arg):
+        yield node.arg, where
+    for node, where in nodes(ast.Name, ast.Attribute):
+        if isinstance(node.ctx, ast.Store):
+            yield (node.id if isinstance(node, ast.Name) else node.attr), where
+
+
+class Language(unittest.TestCase):
+    def none_of(self, bad):
+        self.assertEqual(list(bad), [])
+
+    def test_there_is_a_package(self):
+        self.assertIn(PACKAGE / "__init__.py", files())
+
+    def test_files_and_signs(self):
+        self.none_of(path for path in files() if not re.fullmatch(r"[a-z0-9_]+\.py", path.name))
+        self.none_of(name for name, source in sources() if not re.fullmatch(r"[ -~\n]*", source))
+
+    def test_sizes(self):
+        for name, source in sources():
+            self.assertLessEqual(len(source.splitlines()), 400, name)
+            self.none_of((name, line) for line in source.splitlines() if len(line) > 120)
+        for node, where in nodes(ast.FunctionDef):
+            self.assertLessEqual(node.end_lineno - node.lineno + 1, 40, where)
+
+    def test_words_that_stand_nowhere(self):
+        for name, source in sources():
+            words = re.findall(r"\w+", source)
+            self.none_of((name, word) for word in words if word in NOWHERE)
+            self.none_of((name, word) for word in words if re.search("dataclass|overload|contextmanager", word))
+
+    def test_syntax(self):
+        self.none_of((where, node) for node, where in nodes(ast.AST) if node.__class__.__name__ not in NODES)
+
+    def test_the_top_of_a_module(self):
+        for name, source in sources():
+            body = ast.parse(source).body
+            self.assertIsInstance(getattr(body[0], "value", None), ast.Constant, name)
+            for node in body[1:]:
+                self.assertIsInstance(node, (ast.ImportFrom, ast.Assign, ast.FunctionDef, ast.ClassDef), name)
+            for node in [node for node in body if isinstance(node, ast.Assign)]:
+                for part in ast.walk(node.value):
+                    plain = (ast.Constant, ast.List, ast.Tuple, ast.Dict, ast.Name, ast.Load, ast.UnaryOp, ast.USub)
+                    self.assertIsInstance(part, plain, name)
+
+    def test_imports_draw_from_the_file_that_defines_the_name(self):
+        for node, where in nodes(ast.ImportFrom):
+            self.assertRegex(node.module, r"^reusewise\.[a-z0-9_]+$", where)
+            source = (PACKAGE / (node.module.split(".")[1] + ".py")).read_text("utf-8")
+            for alias in node.names:
+                self.assertIsNone(alias.asname, where)
+                self.assertRegex(source, rf"(?m)^(def |class |){alias.name}\b", where)
+
+    def test_statements(self):
+        self.none_of(where for node, where in nodes(ast.Assign) if len(node.targets) != 1)
+        self.none_of(where for node, where in nodes(ast.While, ast.For) if node.orelse)
+        self.none_of(where for node, where in nodes(ast.Try) if node.finalbody)
+        self.none_of(where for node, where in nodes(ast.FunctionDef, ast.ClassDef) if node.decorator_list)
+        self.none_of(where for node, where in nodes(ast.arguments) if node.vararg or node.kwarg or node.kwonlyargs)
+        for node, where in nodes(ast.ListComp):
+            self.assertEqual((len(node.generators), len(node.generators[0].ifs) < 2), (1, True), where)
+
+    def test_classes(self):
+        for node, where in nodes(ast.ClassDef):
+            self.assertLessEqual(len(node.bases), 1, where)
+            self.assertEqual(node.keywords, [], where)
+            self.none_of(where for part in node.body if not isinstance(part, (ast.FunctionDef, ast.Pass)))
+
+    def test_plain_values(self):
+        for node, where in nodes(ast.Constant):
+            self.assertIsInstance(node.value, (int, str, bool, None.__class__), where)
+            if isinstance(node.value, str):
+                self.assertNotIn("%", node.value, where)
+
+    def test_is_stands_beside_none_true_and_false(self):
+        for node, where in nodes(ast.Compare):
+            for op, right in zip(node.ops, node.comparators):
+                if isinstance(op, (ast.Is, ast.IsNot)):
+                    self.assertIn(getattr(right, "value", 0), (None, True, False), where)
+
+    def test_names(self):
+        for name, where in names_bound():
+            self.assertTrue(name in DOUBLE or re.fullmatch(r"[A-Za-z][A-Za-z0-9_]*", name), (where, name))
+            self.assertNotIn(name, NOT_USED, where)
+        for node, where in nodes(ast.arg, ast.Name):
+            name = node.arg if isinstance(node, ast.arg) else node.id
+            if isinstance(node, ast.arg) or isinstance(node.ctx, ast.Store):
+                self.assertFalse(hasattr(builtins, name), (where, name))
+            self.assertFalse(hasattr(builtins, name) and name not in OWN_NAMES, (where, name))
+            self.assertNotIn(name, NOT_USED, where)
+
+    def test_methods(self):
+        own = {part.name for node, _ in nodes(ast.ClassDef) for part in node.body if isinstance(part, ast.FunctionDef)}
+        for node, where in nodes(ast.Call):
+            if isinstance(node.func, ast.Attribute):
+                self.assertIn(node.func.attr, own | set(OWN_METHODS), where)
+
+    def test_no_name_is_a_method_and_a_value(self):
+        methods = {part.name for node, _ in nodes(ast.ClassDef) for part in node.body if isinstance(part, ast.FunctionDef)}
+        values = {node.attr for node, _ in nodes(ast.Attribute) if isinstance(node.ctx, ast.Store)}
+        self.assertEqual(methods & values, set())
+
+    def test_errors_taken(self):
+        for node, where in nodes(ast.ExceptHandler):
+            self.assertIsNotNone(node.type, where)
+            taken = {part.id for part in ast.walk(node.type) if isinstance(part, ast.Name)}
+            self.assertEqual(taken & {"Exception", "TypeError"}, set(), where)
+
+
+if __name__ == "__main__":
+    unittest.main()
