@@ -221,13 +221,18 @@ class Bounds(unittest.TestCase):
         self.assertEqual(many, 60)
 
     def test_rows_of_240_words(self):
-        lets = "def f a b = " + " ".join(["let x num 1"] * 58) + " give a"
-        cases = "def f a = " + "case a t : " * 46 + "let a func f ; give a" + " end" * 46
-        kind = "kind " + " ".join(f"{word} 1" for word in ["abc"] * 119) + " d 0"
-        for row in (lets, cases, kind):
-            self.assertGreaterEqual(len(row.split(" ")), 239)
+        lets = "def f a b c = " + "let x num 1 " * 58 + "give a"
+        ifs = "def f = " + "if a " * 47 + "give a" + " else give b" * 47
+        cases = "def f a = " + "case a t : " * 46 + "let a num 0 give a" + " end" * 46
+        for row in (lets, ifs, cases):
             with self.subTest(row=row):
+                self.assertEqual(len(row.split(" ")), 240)
                 self.assertEqual(told(read(row)), row)
+
+    def test_a_kind_of_as_many_pairs_as_a_row_has_room_for(self):
+        row = "kind" + " abc 1" * 119
+        self.assertEqual(len(row.split(" ")), 239)
+        self.assertEqual(read(row), (((("abc", 1),) * 119,), ()))
 
     def test_sixty_rows_and_more(self):
         for many in (30, 31, 200):
