@@ -116,3 +116,152 @@ class Maker:
         kinds = tuple(self.kind() for _ in range(self.chance.randint(0, 3)))
         many = self.chance.randint(0, 3)
         return (kinds, tuple((self.name(), self.names(), self.body(depth)) for _ in range(many)))
+
+
+NUM = "num"
+FUN = "fun"
+
+
+class SoundMaker:
+    """Makes sound programs, the same ones for the same seed, most of which run for a while.
+
+    Each name goes by a guess of what it will be: NUM, FUN (a function that wants one number more
+    and gives a number) or the place of a kind. Now and then a name of another guess is taken.
+    """
+
+    def __init__(self, seed, stray=0.05, depth=6, many=4):
+        self.chance = random.Random(seed)
+        self.stray = stray
+        self.depth = depth
+        self.tags = {}
+        kinds = [self.kind(place) for place in range(self.chance.randint(1, 3))]
+        self.defs = {}
+        for name in self.fresh(self.chance.randint(1, many), {}):
+            guesses = [self.guess(len(kinds)) for _ in range(self.chance.choice((0, 1, 1, 2, 2, 3, 4)))]
+            self.defs[name] = (guesses, self.guess(len(kinds), funs=False))
+        self.kinds = len(kinds)
+        defs = tuple(self.one_def(name) for name in self.defs)
+        self.program = (tuple(kinds), defs)
+
+    def kind(self, place):
+        pairs = []
+        for tag in self.fresh(self.chance.randint(1, 3), self.tags):
+            size = 0 if not pairs else self.chance.choice((0, 1, 2, 2, 3))
+            self.tags[tag] = (place, [self.chance.choice((NUM, NUM, place, place, FUN)) for _ in range(size)])
+            pairs.append((tag, size))
+        return tuple(pairs)
+
+    def guess(self, kinds, funs=True):
+        return self.chance.choice([NUM, NUM, *range(kinds), *range(kinds), *([FUN] if funs else [])])
+
+    def fresh(self, many, taken):
+        pool = [name for name in "abcdefghijklmnopqrstuvwxyz" if name not in taken]
+        pool += [a + b for a in "pqrst" for b in "xyz" if a + b not in taken]
+        return self.chance.sample(pool[:30], many)
+
+    def one_def(self, name):
+        guesses = self.defs[name][0]
+        params = self.fresh(len(guesses), {})
+        return (name, tuple(params), self.body(self.depth, dict(zip(params, guesses)), self.defs[name][1]))
+
+    def pick(self, scope, guess):
+        fitting = [name for name in scope if scope[name] == guess]
+        if scope and self.chance.random() < self.stray:
+            return self.chance.choice(list(scope))
+        return self.chance.choice(fitting) if fitting else None
+
+    def body(self, depth, scope, wanted):
+        found = self.pick(scope, wanted)
+        if found is not None and (depth <= 0 or self.chance.random() < 0.12):
+            return ("give", found)
+        if depth <= 0:
+            return self.ending(scope, wanted)
+        word = self.chance.choice(("let", "let", "let", "if", "case", "case"))
+        if word == "if":
+            looked = self.pick(scope, NUM)
+            if looked is not None:
+                return ("if", looked, self.body(depth - 1, scope, wanted), self.body(depth - 1, scope, wanted))
+        if word == "case":
+            place = self.chance.randrange(self.kinds)
+            looked = self.pick(scope, place)
+            if looked is not None:
+                return ("case", looked, self.arms(place, depth, scope, wanted))
+        deed, guess = self.deed(scope, wanted)
+        return self.let(deed, guess, depth, scope, wanted)
+
+    def let(self, deed, guess, depth, scope, wanted):
+        name = self.fresh(1, scope)[0]
+        return ("let", name, deed, self.body(depth - 1, {**scope, name: guess}, wanted))
+
+    def arms(self, place, depth, scope, wanted):
+        tags = [tag for tag in self.tags if self.tags[tag][0] == place]
+        self.chance.shuffle(tags)
+        arms = []
+        for tag in tags:
+            names = self.fresh(len(self.tags[tag][1]), scope)
+            within = {**scope, **dict(zip(names, self.tags[tag][1]))}
+            arms.append((tag, tuple(names), self.body(depth - 1, within, wanted)))
+        return tuple(arms)
+
+    def ending(self, scope, wanted):
+        """A body without branches that gives what is wanted, however little there is to make it of."""
+        if wanted == NUM:
+            deed = ("num", self.chance.choice((0, 1, -1, 7)))
+        elif wanted == FUN:
+            deed = None
+        else:
+            deed = self.make(scope, wanted)
+        name = self.fresh(1, scope)[0]
+        return ("let", name, deed or ("num", 3), ("give", name))
+
+    def make(self, scope, place):
+        tags = [tag for tag in self.tags if self.tags[tag][0] == place]
+        self.chance.shuffle(tags)
+        for tag in tags:
+            names = [self.pick(scope, guess) for guess in self.tags[tag][1]]
+            if None not in names:
+                return ("make", tag, tuple(names))
+        return None
+
+    def deed(self, scope, wanted):
+        word = self.chance.choice(("num", "op", "make", "make", "make", "call", "call", "func", "ask"))
+        if word == "op" and self.pick(scope, NUM) is not None:
+            a, b = self.pick(scope, NUM), self.pick(scope, NUM)
+            if a is not None and b is not None:
+                return ("op", self.chance.choice(OP_WORDS), a, b), NUM
+        if word == "make":
+            place = wanted if wanted in range(self.kinds) else self.chance.randrange(self.kinds)
+            deed = self.make(scope, place)
+            if deed is not None:
+                return deed, place
+        if word == "call":
+            name = self.chance.choice(list(self.defs))
+            names = [self.pick(scope, guess) for guess in self.defs[name][0]]
+            if None not in names:
+                return ("call", name, tuple(names)), self.defs[name][1]
+        if word == "func":
+            name = self.chance.choice(list(self.defs))
+            guesses = self.defs[name][0]
+            names = [self.pick(scope, guess) for guess in guesses[:-1]]
+            if guesses and guesses[-1] == NUM and None not in names:
+                return ("func", name, tuple(names)), FUN
+        if word == "ask":
+            g, a = self.pick(scope, FUN), self.pick(scope, NUM)
+            if g is not None and a is not None:
+                return ("ask", g, (a,)), NUM
+        return ("num", self.chance.choice((0, 1, 2, -3, 10 ** 20))), NUM
+
+    def argument(self, guess, depth=4):
+        if guess in (NUM, FUN):
+            return [self.chance.choice((0, 1, 2, -5))]
+        tags = [tag for tag in self.tags if self.tags[tag][0] == guess]
+        tag = tags[0] if depth <= 0 else self.chance.choice(tags)
+        parts = [tag]
+        for within in self.tags[tag][1]:
+            parts += self.argument(within, depth - 1)
+        return parts
+
+    def begin(self):
+        """A def's name and arguments for it."""
+        name = self.chance.choice(list(self.defs))
+        return name, [self.argument(guess) for guess in self.defs[name][0]]

@@ -35,6 +35,15 @@ register mro elements open input version_info with_traceback add_note attrgetter
 copyright credits delattr dir eval exec exit gc getattr globals hasattr help id importlib license locals
 methodcaller os quit setattr super vars sys format format_map chr print float bytes object
 """.split()
+MAY_BE_VALUES = "count index title find get join lower upper split strip copy add".split()
+WALKED = ("zip", "enumerate", "reversed", "range")
+TAKE_A_WALK = ("list", "tuple", "dict", "sorted", "sum", "any", "all", "enumerate", "zip")
+CHANGING = "append clear extend insert pop remove reverse setdefault update".split()
+KEYWORDS = {
+    "sorted": ("key", "reverse"), "min": ("key", "default"), "max": ("key", "default"), "sum": ("start",),
+    "enumerate": ("start",), "zip": ("strict",),
+}
+AS_THEY_STAND = ("True", "False", "None")
 
 
 def files():
@@ -51,6 +60,35 @@ def nodes(*kinds):
         for node in ast.walk(ast.parse(source)):
             if isinstance(node, kinds):
                 yield node, f"{name}:{getattr(node, 'lineno', 0)}"
+
+
+def with_parents(tree):
+    """Each node below the tree's top with the one it stands in."""
+    for parent in ast.walk(tree):
+        for node in ast.iter_child_nodes(parent):
+            yield node, parent
+
+
+def called(node):
+    """The plain name that a call calls, or ""."""
+    return node.func.id if isinstance(node, ast.Call) and isinstance(node.func, ast.Name) else ""
+
+
+def own_methods():
+    return {part.name for node, _ in nodes(ast.ClassDef) for part in node.body if isinstance(part, ast.FunctionDef)}
+
+
+def own_values():
+    return {node.attr for node, _ in nodes(ast.Attribute) if isinstance(node.ctx, ast.Store)}
+
+
+def drawn_from():
+    """For each file of the package the files that it draws from."""
+    drawn = {}
+    for name, source in sources():
+        rows = [node for node in ast.parse(source).body if isinstance(node, ast.ImportFrom)]
+        drawn[name[:-3]] = [node.module.split(".")[1] for node in rows]
+    return drawn
 
 
 def names_bound():
@@ -148,21 +186,118 @@ class Language(unittest.TestCase):
             self.assertNotIn(name, NOT_USED, where)
 
     def test_methods(self):
-        own = {part.name for node, _ in nodes(ast.ClassDef) for part in node.body if isinstance(part, ast.FunctionDef)}
+        own = own_methods()
         for node, where in nodes(ast.Call):
             if isinstance(node.func, ast.Attribute):
                 self.assertIn(node.func.attr, own | set(OWN_METHODS), where)
+        for name, source in sources():
+            for node, parent in with_parents(ast.parse(source)):
+                if isinstance(node, ast.Attribute) and node.attr in own | set(OWN_METHODS) and node.attr not in MAY_BE_VALUES:
+                    self.assertTrue(isinstance(parent, ast.Call) and parent.func is node, (name, node.lineno, node.attr))
+
+    def test_values_and_methods_are_called_like_none_of_pythons_own(self):
+        pythons = {name for one in (str, int, list, dict, set, bytes, tuple) for name in vars(one)}
+        self.none_of(own_values() & pythons - set(MAY_BE_VALUES))
+        self.none_of(own_methods() & pythons - set(OWN_METHODS) - set(DOUBLE) - {"add", "discard"})
+        for node, where in nodes(ast.ClassDef):
+            methods = [part.name for part in node.body if isinstance(part, ast.FunctionDef)]
+            self.assertEqual(len(methods), len(set(methods)), where)
 
     def test_no_name_is_a_method_and_a_value(self):
-        methods = {part.name for node, _ in nodes(ast.ClassDef) for part in node.body if isinstance(part, ast.FunctionDef)}
-        values = {node.attr for node, _ in nodes(ast.Attribute) if isinstance(node.ctx, ast.Store)}
-        self.assertEqual(methods & values, set())
+        self.assertEqual(own_methods() & own_values(), set())
 
     def test_errors_taken(self):
         for node, where in nodes(ast.ExceptHandler):
             self.assertIsNotNone(node.type, where)
             taken = {part.id for part in ast.walk(node.type) if isinstance(part, ast.Name)}
-            self.assertEqual(taken & {"Exception", "TypeError"}, set(), where)
+            pythons = {name for name in taken if hasattr(builtins, name)}
+            self.assertLessEqual(pythons, {"KeyError", "ZeroDivisionError", "StopIteration"}, where)
+
+    def test_no_two_files_draw_from_one_another(self):
+        left = drawn_from()
+        while left:
+            last = [name for name in left if not set(left[name]) & set(left)]
+            self.assertNotEqual(last, [], left)
+            left = {name: left[name] for name in left if name not in last}
+
+    def test_locals_are_called_like_no_class_import_or_other_name_of_the_top(self):
+        for name, source in sources():
+            tree = ast.parse(source)
+            tops = [node.name for node in tree.body if isinstance(node, (ast.ClassDef, ast.FunctionDef))]
+            tops += [part.id for node in tree.body if isinstance(node, ast.Assign) for part in node.targets]
+            self.assertEqual(len(tops), len(set(tops)), name)
+            taken = [node.name for node in tree.body if isinstance(node, ast.ClassDef)]
+            taken += [part.name for node in tree.body if isinstance(node, ast.ImportFrom) for part in node.names]
+            self.assertEqual(set(tops) & {part for part in taken if part not in tops}, set(), name)
+            for one in [node for node in ast.walk(tree) if isinstance(node, (ast.FunctionDef, ast.Lambda))]:
+                inner = [node.arg for node in ast.walk(one) if isinstance(node, ast.arg)]
+                inner += [
+                    node.id for node in ast.walk(one) if isinstance(node, ast.Name) and isinstance(node.ctx, ast.Store)
+                ]
+                self.assertEqual(set(inner) & set(taken + tops), set(), (name, one.lineno))
+
+    def test_assignments_have_one_plain_target(self):
+        for node, where in nodes(ast.Assign):
+            self.assertIsInstance(node.targets[0], (ast.Name, ast.Attribute, ast.Subscript), where)
+
+    def test_what_is_walked_is_walked_at_once(self):
+        for name, source in sources():
+            for node, parent in with_parents(ast.parse(source)):
+                method = isinstance(node, ast.Call) and isinstance(node.func, ast.Attribute) and node.func.attr
+                if called(node) not in WALKED and method not in ("items", "keys", "values"):
+                    continue
+                walks = isinstance(parent, (ast.For, ast.comprehension)) and parent.iter is node
+                first = called(parent) in TAKE_A_WALK and parent.args[0] is node
+                alone = called(parent) in ("min", "max") and parent.args == [node]
+                joined = isinstance(parent, ast.Call) and getattr(parent.func, "attr", "") == "join"
+                zipped = called(parent) == "zip"
+                self.assertTrue(walks or first or alone or joined or zipped, (name, node.lineno))
+
+    def test_what_a_loop_walks_is_not_changed_in_it(self):
+        for loop, where in nodes(ast.For):
+            walked = loop.iter
+            while called(walked) in WALKED and walked.args:
+                walked = walked.args[0]
+            walked = ast.dump(walked)
+            for node in [node for part in loop.body for node in ast.walk(part)]:
+                if isinstance(node, ast.Call) and isinstance(node.func, ast.Attribute) and node.func.attr in CHANGING:
+                    self.assertNotEqual(ast.dump(node.func.value), walked, where)
+                if isinstance(node, ast.Subscript) and isinstance(node.ctx, ast.Store):
+                    self.assertNotEqual(ast.dump(node.value).replace("Store", "Load"), walked, where)
+
+    def test_keywords_at_pythons_own(self):
+        for node, where in nodes(ast.Call):
+            given = {word.arg for word in node.keywords}
+            own = called(node) and not hasattr(builtins, called(node))
+            self.assertTrue(own or given <= set(KEYWORDS.get(called(node), ())) or not given, where)
+
+    def test_sets_and_names_of_pythons_own_are_called_on_the_spot(self):
+        for name, source in sources():
+            for node, parent in with_parents(ast.parse(source)):
+                if isinstance(node, ast.Name) and hasattr(builtins, node.id) and node.id not in AS_THEY_STAND:
+                    on_the_spot = isinstance(parent, ast.Call) and parent.func is node
+                    asked = called(parent) == "isinstance" or isinstance(parent, ast.Tuple)
+                    base = isinstance(parent, (ast.ClassDef, ast.ExceptHandler))
+                    method = isinstance(parent, ast.Attribute) and parent.attr == "__init__"
+                    self.assertTrue(on_the_spot or asked or base or method, (name, node.lineno, node.id))
+                self.assertNotIsInstance(node, ast.Set, name)
+                self.assertNotIn(called(node), ("set", "frozenset"), name)
+
+    def test_powers_have_a_written_exponent(self):
+        for node, where in nodes(ast.BinOp):
+            if isinstance(node.op, ast.Pow):
+                self.assertIn(getattr(node.right, "value", None), range(65), where)
+
+    def test_first_methods_give_nothing_back(self):
+        for node, where in nodes(ast.FunctionDef):
+            if node.name == "__init__":
+                self.none_of(where for part in ast.walk(node) if isinstance(part, ast.Return))
+
+    def test_lists_and_dicts_of_the_top_hold_none_themselves(self):
+        for name, source in sources():
+            for node in [node for node in ast.parse(source).body if isinstance(node, ast.Assign)]:
+                inner = [part for part in ast.walk(node.value) if part is not node.value]
+                self.none_of((name, part) for part in inner if isinstance(part, (ast.List, ast.Dict)))
 
 
 if __name__ == "__main__":
