@@ -1,8 +1,10 @@
-"""What several tests need: a writer and a judge of texts that share nothing with the program,
-and a maker of programs of every form, sound or not."""
+"""What several tests need: makers of programs, sound or not, and judges that share nothing with the
+program: a writer, a judge of texts, a plain runner, the ways through a body."""
 
+import math
 import random
 import re
+from fractions import Fraction
 
 LANGUAGE_WORDS = (
     "def kind give let if else case end num plus minus times over rest less same make call func ask"
@@ -265,3 +267,197 @@ class SoundMaker:
         """A def's name and arguments for it."""
         name = self.chance.choice(list(self.defs))
         return name, [self.argument(guess) for guess in self.defs[name][0]]
+
+
+LIBRARY = """\
+kind nil 0 cons 2
+kind tip 0 fork 3
+kind wrap 1
+def upto n = let z num 0 let p less z n if p let o num 1 let m minus n o let r call upto m ; let c make cons n r ; give c else let e make nil ; give e
+def inc xs = case xs nil : let e make nil ; give e cons h t : let o num 1 let a plus h o let r call inc t ; let c make cons a r ; give c end
+def total xs = case xs nil : let z num 0 give z cons h t : let s call total t ; let r plus h s give r end
+def turned xs acc = case xs nil : give acc cons h t : let a make cons h acc ; let r call turned t a ; give r end
+def joined xs ys = case xs nil : give ys cons h t : let r call joined t ys ; let c make cons h r ; give c end
+def mapped g xs = case xs nil : give xs cons h t : let a ask g h ; let r call mapped g t ; let c make cons a r ; give c end
+def added a b = let s plus a b give s
+def addall n xs = let g func added n ; let r call mapped g xs ; give r
+def kept g xs = case xs nil : give xs cons h t : let r call kept g t ; let a ask g h ; if a let c make cons h r ; give c else give r end
+def below n x = let r less x n give r
+def keptbelow n xs = let g func below n ; let r call kept g xs ; give r
+def both xs = let a call inc xs ; let b call joined xs a ; let c make cons xs b ; give c
+def put k t = case t tip : let e make tip ; let r make fork e k e ; give r fork l n r : let p less k n if p let a call put k l ; let b make fork a n r ; give b else let a call put k r ; let b make fork l n a ; give b end
+def planted xs t = case xs nil : give t cons h r : let a call put h t ; let b call planted r a ; give b end
+def flat t = case t tip : let e make nil ; give e fork l n r : let a call flat l ; let b call flat r ; let c make cons n b ; let d call joined a c ; give d end
+def sorted xs = let e make tip ; let t call planted xs e ; let r call flat t ; give r
+def tower n x = if n let o num 1 let m minus n o let y make cons x x ; let r call tower m y ; give r else give x
+def heap n x = if n let o num 1 let m minus n o let y make wrap x ; let r call heap m y ; give r else give x
+def forever x = let y call forever x ; give y
+def wrapped x = let y make wrap x ; give y
+def inner w = case w wrap x : give x end
+def rewrap w = case w wrap x : let z num 5 let v make wrap z ; if x give v else give w end
+def twicewrap w = case w wrap x : let a make wrap x ; let b make wrap a ; give b end
+def counted n = if n let o num 1 let m minus n o let r call counted m ; let s plus r o give s else give n
+def folded g xs z = case xs nil : give z cons h t : let a ask g z h ; let r call folded g t a ; give r end
+def sumup xs = let g func added ; let z num 0 let r call folded g xs z ; give r
+def lastof xs = case xs nil : let z num -1 give z cons h t : case t nil : give h cons i u : let r call lastof t ; give r end end"""
+
+
+def parts_in(number_list):
+    """The parts of a row of numbers, a list."""
+    return [thing for number in number_list for thing in ("cons", number)] + ["nil"]
+
+
+class Stopped(Exception):
+    pass
+
+
+class PlainRun:
+    """A plain runner by calls within calls, which shares nothing with the program's."""
+
+    OPS = {
+        "plus": lambda a, b: a + b, "minus": lambda a, b: a - b, "times": lambda a, b: a * b,
+        "over": lambda a, b: math.floor(Fraction(a, b)), "rest": lambda a, b: a - b * math.floor(Fraction(a, b)),
+        "less": lambda a, b: int(a < b), "same": lambda a, b: int(a == b),
+    }
+
+    def __init__(self, program, steps):
+        self.defs = {name: (params, body) for name, params, body in program[1]}
+        self.sizes = dict(pair for kind in program[0] for pair in kind)
+        self.steps = self.left = steps
+
+    def answer(self, name, args):
+        try:
+            value = self.called(name, [self.value(list(parts)) for parts in args])
+        except Stopped as stop:
+            return stop.args[0]
+        told_parts = []
+        self.tell(value, told_parts)
+        return ("told", told_parts)
+
+    def tell(self, value, told_parts):
+        if len(told_parts) < 100:
+            told_parts.append(value[0] if isinstance(value, tuple) else value)
+            for part in value[1] if isinstance(value, tuple) else ():
+                self.tell(part, told_parts)
+
+    def value(self, parts):
+        first = parts.pop(0)
+        return first if isinstance(first, int) else (first, [self.value(parts) for _ in range(self.sizes[first])])
+
+    def called(self, name, values):
+        params, body = self.defs[name]
+        return self.body(body, dict(zip(params, values)))
+
+    def step(self, name, values):
+        if self.left == 0:
+            raise Stopped(("late", self.steps))
+        self.left -= 1
+        return self.called(name, values)
+
+    def body(self, body, names):
+        if body[0] == "give":
+            return names[body[1]]
+        if body[0] == "let":
+            return self.body(body[3], {**names, body[1]: self.deed(body[2], names)})
+        looked = names[body[1]]
+        if body[0] == "if":
+            if isinstance(looked, tuple):
+                raise Stopped(("fault", "nonumber"))
+            return self.body(body[2] if looked else body[3], names)
+        for tag, parts, within in body[2]:
+            if isinstance(looked, tuple) and looked[0] == tag:
+                return self.body(within, {**names, **dict(zip(parts, looked[1]))})
+        raise Stopped(("fault", "noshape"))
+
+    def deed(self, deed, names):
+        if deed[0] == "num":
+            return deed[1]
+        if deed[0] == "op":
+            return self.op(deed[1], names[deed[2]], names[deed[3]])
+        values = [names[name] for name in deed[2]]
+        if deed[0] == "make":
+            return (deed[1], values)
+        if deed[0] == "func":
+            return (f"func {deed[1]} {len(values)}", values)
+        if deed[0] == "call":
+            return self.step(deed[1], values)
+        g = names[deed[1]]
+        if isinstance(g, tuple) and g[0].startswith("func "):
+            name = g[0].split()[1]
+            if len(g[1]) + len(values) == len(self.defs[name][0]):
+                return self.step(name, g[1] + values)
+        raise Stopped(("fault", "nofunc"))
+
+    def op(self, word, a, b):
+        if isinstance(a, tuple) or isinstance(b, tuple):
+            raise Stopped(("fault", "nonumber"))
+        if word in ("over", "rest") and b == 0:
+            raise Stopped(("fault", "nought"))
+        result = self.OPS[word](a, b)
+        if abs(result) >= 10 ** 30:
+            raise Stopped(("fault", "great"))
+        return result
+
+
+def plain_answer(program, name, args, steps):
+    return PlainRun(program, steps).answer(name, args)
+
+
+def deed_names(deed):
+    if deed[0] == "num":
+        return []
+    if deed[0] == "op":
+        return [deed[2], deed[3]]
+    return ([deed[1]] if deed[0] == "ask" else []) + list(deed[2])
+
+
+def ways(body):
+    """Each way through a body, plain or held, as the list of what is met on it: the piece's word, the
+    names that it uses, the names that it binds."""
+    if body[0] == "give":
+        return [[("give", [body[1]], [])]]
+    if body[0] == "let":
+        first = ("let", deed_names(body[2]), [body[1]])
+        return [[first] + way for way in ways(body[3])]
+    if body[0] == "if":
+        return [[("if", [body[1]], [])] + way for within in body[2:] for way in ways(within)]
+    if body[0] == "case":
+        return [[("case", [body[1]], list(arm[1]))] + way for arm in body[2] for way in ways(arm[-1])]
+    if body[0] == "hold":
+        return [[("hold", [body[2]], [body[1]])] + way for way in ways(body[3])]
+    return [[(body[0], [], [])] + way for way in ways(body[2])]
+
+
+def used_ahead(body, name):
+    for way in ways(body):
+        for _, used, binds in way:
+            if name in used:
+                return True
+            if name in binds:
+                break
+    return False
+
+
+def all_bodies(body):
+    """A body and all within it, plain or held."""
+    yield body
+    if body[0] == "case":
+        for arm in body[2]:
+            yield from all_bodies(arm[-1])
+    elif body[0] != "give":
+        for within in body[2:] if body[0] == "if" else body[-1:]:
+            yield from all_bodies(within)
+
+
+def handed_defs(program):
+    """The names of the defs that some func names."""
+    bodies = [body for one in program[1] for body in all_bodies(one[-1])]
+    return {body[2][1] for body in bodies if body[0] == "let" and body[2][0] == "func"}
+
+
+def some_owns(program, chance):
+    """Owns for each def, by chance where no func names it."""
+    handed = handed_defs(program)
+    return {
+        name: tuple(name in handed or chance.random() < 0.5 for _ in params) for name, params, _ in program[1]
+    }
