@@ -1,7 +1,7 @@
 """Puts holds and drops into a program, and takes them out again."""
 
 from reusewise.uses import bits_of, bound, names_of, noted, used_up, with_names
-from reusewise.walk import worked_out
+from reusewise.walk import only_one, worked_out
 
 
 def held(program, owns):
@@ -140,9 +140,9 @@ def plain_body(body):
 # `stands` tells for each name that a hold bound what it stands for.
 def begun_plain(body, stands):
     if body[0] == "hold":
-        return ([(body[3], standing(stands, body[1], meant(body[2], stands)))], first_of)
+        return ([(body[3], standing(stands, body[1], meant(body[2], stands)))], only_one)
     if body[0] in ("drop", "loose"):
-        return ([(body[2], stands)], first_of)
+        return ([(body[2], stands)], only_one)
     if body[0] == "let":
         done = plain_deed(body[2], stands)
         return ([(body[3], itself(stands, [body[1]]))], lambda results: ("let", body[1], done, results[0]))
@@ -153,10 +153,6 @@ def begun_plain(body, stands):
         return ([(body[2], stands), (body[3], stands)], lambda results: ("if", looked, results[0], results[1]))
     within = [(arm[4], itself(stands, arm[1])) for arm in body[2]]
     return (within, lambda results: ("case", looked, plain_arms(body[2], results)))
-
-
-def first_of(results):
-    return results[0]
 
 
 def meant(name, stands):

@@ -1,6 +1,6 @@
 """Which names code uses and binds: plain bodies and, held ones alike."""
 
-from reusewise.walk import worked_out
+from reusewise.walk import ways_on, worked_out
 
 
 def bound(one):
@@ -53,31 +53,6 @@ def note_of(body, ways, notes, bits):
     for way, note in zip(ways, notes):
         found = found | note[0] & ~together(way[0], bits)
     return (found | together(names_used(body), bits), notes)
-
-
-# The bodies right within a body, in the text's order, each with the names bound on the way to it.
-def ways_on(body):
-    if body[0] == "give":
-        return []
-    if body[0] == "if":
-        return [((), body[2]), ((), body[3])]
-    if body[0] == "case":
-        return [(arm[1], arm[-1]) for arm in body[2]]
-    if body[0] in ("let", "hold"):
-        return [((body[1],), body[-1])]
-    return [((), body[-1])]
-
-
-# All bodies that lie in a body, itself first, in the text's order.
-def bodies_in(body):
-    found = []
-    left = [body]
-    while len(left) > 0:
-        one = left.pop()
-        found.append(one)
-        for way in reversed(ways_on(one)):
-            left.append(way[1])
-    return found
 
 
 # The names that a body's outermost piece uses. A drop is no use.

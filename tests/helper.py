@@ -6,6 +6,8 @@ import random
 import re
 from fractions import Fraction
 
+from reusewise.errors import Full, Gone
+
 LANGUAGE_WORDS = (
     "def kind give let if else case end num plus minus times over rest less same make call func ask"
 ).split()
@@ -131,8 +133,12 @@ class SoundMaker:
     and gives a number) or the place of a kind. Now and then a name of another guess is taken.
     """
 
-    def __init__(self, seed, stray=0.05, depth=6, many=4):
+    def __init__(self, seed, stray=0.05, depth=6, many=4, shapely=False):
         self.chance = random.Random(seed)
+        # Shapely programs are mostly of cases and makes, few of them without a name.
+        self.shapely = shapely
+        self.words = ("let", "let", "if", "case", "case", "case") if shapely else ("let", "let", "let", "if", "case", "case")
+        self.deeds = ["num", "op", "make", "make", "make", "call", "call", "func", "ask"] + ["make"] * 20 * shapely
         self.stray = stray
         self.depth = depth
         self.tags = {}
@@ -148,7 +154,7 @@ class SoundMaker:
     def kind(self, place):
         pairs = []
         for tag in self.fresh(self.chance.randint(1, 3), self.tags):
-            size = 0 if not pairs else self.chance.choice((0, 1, 2, 2, 3))
+            size = 0 if not pairs else self.chance.choice((1, 1, 2) if self.shapely else (0, 1, 2, 2, 3))
             self.tags[tag] = (place, [self.chance.choice((NUM, NUM, place, place, FUN)) for _ in range(size)])
             pairs.append((tag, size))
         return tuple(pairs)
@@ -178,7 +184,7 @@ class SoundMaker:
             return ("give", found)
         if depth <= 0:
             return self.ending(scope, wanted)
-        word = self.chance.choice(("let", "let", "let", "if", "case", "case"))
+        word = self.chance.choice(self.words)
         if word == "if":
             looked = self.pick(scope, NUM)
             if looked is not None:
@@ -219,6 +225,8 @@ class SoundMaker:
     def make(self, scope, place):
         tags = [tag for tag in self.tags if self.tags[tag][0] == place]
         self.chance.shuffle(tags)
+        if self.shapely:
+            tags = sorted(tags, key=lambda tag: not self.tags[tag][1])
         for tag in tags:
             names = [self.pick(scope, guess) for guess in self.tags[tag][1]]
             if None not in names:
@@ -226,7 +234,7 @@ class SoundMaker:
         return None
 
     def deed(self, scope, wanted):
-        word = self.chance.choice(("num", "op", "make", "make", "make", "call", "call", "func", "ask"))
+        word = self.chance.choice(self.deeds)
         if word == "op" and self.pick(scope, NUM) is not None:
             a, b = self.pick(scope, NUM), self.pick(scope, NUM)
             if a is not None and b is not None:
@@ -461,3 +469,399 @@ def some_owns(program, chance):
     return {
         name: tuple(name in handed or chance.random() < 0.5 for _ in params) for name, params, _ in program[1]
     }
+
+
+def paths(body):
+    """Each way through a body as the list of the bodies on it, from the outside in, each with the
+    arm that it goes on with, or None."""
+    if body[0] == "give":
+        return [[(body, None)]]
+    if body[0] == "case":
+        return [[(body, arm)] + path for arm in body[2] for path in paths(arm[-1])]
+    within = body[2:] if body[0] == "if" else body[-1:]
+    return [[(body, None)] + path for one in within for path in paths(one)]
+
+
+class Broken(Exception):
+    pass
+
+
+def insist(fits):
+    if not fits:
+        raise Broken()
+
+
+def spent_and_looked(body, owns):
+    """The names that a body's outermost piece uses up, and those that it only looks at or lends."""
+    if body[0] == "give":
+        return [body[1]], []
+    if body[0] == "let":
+        deed = body[2]
+        names = deed_names(deed)
+        ends = owns[deed[1]] if deed[0] == "call" else [deed[0] != "op"] * len(names)
+        return ([name for name, end in zip(names, ends) if end], [name for name, end in zip(names, ends) if not end])
+    if body[0] == "hold":
+        return [], [body[2]]
+    if body[0] == "drop":
+        return [body[1]], []
+    return [], [body[1]] if body[0] in ("if", "case") else []
+
+
+class Walker:
+    """Goes along one way through a held def and keeps what is at hand, as [15] and [21] tell it."""
+
+    def __init__(self, one, owns):
+        self.owns = owns
+        self.held = [param for param, own in zip(one[1], one[2]) if own]
+        self.lent = [param for param, own in zip(one[1], one[2]) if not own]
+        self.kept = {}
+
+    def go(self, body, arm):
+        spent, looked = spent_and_looked(body, self.owns)
+        if body[0] == "case" and arm[2] == "take":
+            spent, looked = looked, []
+        for name in spent:
+            insist(name in self.held)
+            self.held.remove(name)
+        insist(all(name in self.held + self.lent for name in looked))
+        if body[0] == "let":
+            self.deed(body[2])
+        if body[0] == "loose":
+            insist(self.kept.pop(body[1], None) is not None)
+        if body[0] == "give":
+            insist(not self.held and not self.kept)
+        for name in [body[1]] if body[0] in ("let", "hold") else arm[1] if arm else []:
+            insist(name not in self.held + self.lent)
+            self.held.append(name)
+        if arm and arm[3]:
+            insist(arm[2] == "take" and arm[1] and arm[3] not in self.kept)
+            self.kept[arm[3]] = len(arm[1])
+
+    def deed(self, deed):
+        if deed[0] == "func":
+            insist(all(self.owns[deed[1]]))
+        if deed[0] == "make" and deed[3]:
+            insist(self.kept.pop(deed[3], None) == len(deed[2]))
+
+
+def first_unheld(code):
+    """The name of the first def in which the code is otherwise than [21] tells, or None."""
+    owns = {one[0]: one[2] for one in code[1]}
+    for one in code[1]:
+        for path in paths(one[3]):
+            walker = Walker(one, owns)
+            try:
+                for body, arm in path:
+                    walker.go(body, arm)
+            except Broken:
+                return one[0]
+    return None
+
+
+def is_tight(code):
+    """Whether the code, let by, is tight as [22] tells it."""
+    owns = {one[0]: one[2] for one in code[1]}
+    for one in code[1]:
+        for path in paths(one[3]):
+            walker = Walker(one, owns)
+            for body, arm in path:
+                if body[0] not in ("hold", "drop", "loose"):
+                    if not all(used_ahead(body, name) for name in walker.held):
+                        return False
+                walker.go(body, arm)
+    return True
+
+
+def rewritten(body, change):
+    """The body with each body in it, from the inside out, handed to `change`."""
+    if body[0] == "if":
+        body = body[:2] + tuple(rewritten(within, change) for within in body[2:])
+    elif body[0] == "case":
+        body = ("case", body[1], tuple(arm[:-1] + (rewritten(arm[-1], change),) for arm in body[2]))
+    elif body[0] != "give":
+        body = body[:-1] + (rewritten(body[-1], change),)
+    return change(body)
+
+
+class Spoiler:
+    """Changes held code at one place, or at a few, by chance."""
+
+    def __init__(self, seed):
+        self.chance = random.Random(seed)
+
+    def spoilt(self, code):
+        defs = list(code[1])
+        for _ in range(self.chance.choice((1, 1, 1, 2, 3))):
+            at = self.chance.randrange(len(defs))
+            defs[at] = self.spoilt_def(defs[at])
+        return (code[0], tuple(defs))
+
+    def spoilt_def(self, one):
+        if one[1] and self.chance.random() < 0.08:
+            k = self.chance.randrange(len(one[1]))
+            return one[:2] + (one[2][:k] + (not one[2][k],) + one[2][k + 1:], one[3])
+        bodies = list(all_bodies(one[3]))
+        place = self.chance.randrange(len(bodies))
+        self.names = sorted({name for way in ways(one[3])[:20] for _, used, binds in way for name in used + binds})
+        self.tokens = ["", "t", *{arm[3] for body in bodies if body[0] == "case" for arm in body[2]}]
+        self.tokens.sort()
+        met = []
+
+        def change(body):
+            met.append(body)
+            return self.changed(body) if len(met) == place + 1 else body
+
+        return one[:3] + (rewritten(one[3], change),)
+
+    def changed(self, body):
+        name, token = self.chance.choice(self.names), self.chance.choice(self.tokens)
+        how = self.chance.randrange(8)
+        if how == 0:
+            return ("drop", name, body)
+        if how == 1:
+            return ("hold", self.chance.choice((name, "new", "other")), self.chance.choice(self.names), body)
+        if how == 2:
+            return ("loose", token, body)
+        if body[0] in ("hold", "drop", "loose") and how < 6:
+            return body[-1]
+        if body[0] == "hold":
+            return body[:1] + self.chance.choice(((name, body[2]), (body[1], name))) + body[3:]
+        if body[0] == "case":
+            k = self.chance.randrange(len(body[2]))
+            return ("case", body[1], body[2][:k] + (self.changed_arm(body[2][k], token),) + body[2][k + 1:])
+        if body[0] == "let" and body[2][0] != "num":
+            return body[:2] + (self.changed_deed(body[2], name, token), body[3])
+        return body[:1] + (name,) + body[2:]
+
+    def changed_arm(self, arm, token):
+        if self.chance.random() < 0.5:
+            return arm[:2] + ("take" if arm[2] == "look" else "look",) + arm[3:]
+        return arm[:3] + (token,) + arm[4:]
+
+    def changed_deed(self, deed, name, token):
+        if deed[0] == "make" and self.chance.random() < 0.3:
+            return deed[:3] + (token,)
+        if deed[0] == "op":
+            return deed[:2] + self.chance.choice(((name, deed[3]), (deed[2], name)))
+        if deed[0] == "ask" and self.chance.random() < 0.3:
+            return ("ask", name, deed[2])
+        if not deed[2]:
+            return deed
+        k = self.chance.randrange(len(deed[2]))
+        return deed[:2] + (deed[2][:k] + (name,) + deed[2][k + 1:],) + deed[3:]
+
+
+class Loosener:
+    """Makes other code that is let by of code that is: drops stand later, names are held besides,
+    arms look and drop where they took."""
+
+    def __init__(self, seed):
+        self.chance = random.Random(seed)
+        self.many = 0
+
+    def other(self, code):
+        for _ in range(self.chance.randint(1, 6)):
+            at = self.chance.randrange(len(code[1]))
+            one = code[1][at]
+            changed = (code[0], code[1][:at] + (one[:3] + (self.somewhere(one[3]),),) + code[1][at + 1:])
+            if first_unheld(changed) is None:
+                code = changed
+        return code
+
+    def somewhere(self, body):
+        names = sorted({name for way in ways(body)[:20] for _, used, binds in way for name in used + binds})
+        order, met = [], []
+        rewritten(body, lambda one: order.append(one) or one)
+        place = self.chance.choice([at for at, one in enumerate(order) if one[0] not in ("give", "loose")] or [0])
+
+        def change(one):
+            met.append(one)
+            return self.changed(one, self.chance.choice(names)) if len(met) == place + 1 else one
+
+        return rewritten(body, change)
+
+    def changed(self, body, name):
+        if body[0] == "drop" and self.chance.random() < 0.8:
+            return self.later(body[1], body[2])
+        if body[0] == "case" and self.chance.random() < 0.7:
+            arms = [self.looking(body[1], arm) for arm in body[2]]
+            return ("case", body[1], tuple(arms))
+        self.many += 1
+        new = f"besides{self.many}"
+        return ("hold", new, name, self.at_the_ends(new, body))
+
+    def later(self, name, body):
+        """The body with a drop of the name a piece later."""
+        if body[0] == "give":
+            return ("drop", name, body)
+        if body[0] == "if":
+            return body[:2] + tuple(("drop", name, within) for within in body[2:])
+        if body[0] == "case":
+            return ("case", body[1], tuple(arm[:4] + (("drop", name, arm[4]),) for arm in body[2]))
+        return body[:-1] + (("drop", name, body[-1]),)
+
+    def looking(self, name, arm):
+        if arm[2] == "look" or arm[3] or self.chance.random() < 0.5:
+            return arm
+        return arm[:2] + ("look", "", ("drop", name, arm[4]))
+
+    def at_the_ends(self, name, body):
+        return rewritten(body, lambda one: ("drop", name, one) if one[0] == "give" else one)
+
+
+class PlainHeap:
+    """A heap that keeps everything in plain lists and finds all anew each time; slow where asked.
+
+    Its methods raise Broken where the program's refuse."""
+
+    def __init__(self, size, slow=False):
+        self.size, self.slow = size, slow
+        self.fresh = self.anew = self.peak = 0
+        self.rows = []      # [at, tag, parts, count]
+        self.kept, self.row = [], []
+
+    def found(self, value):
+        rows = [row for row in self.rows if row[0] == value[1] and value[1] not in self.row]
+        insist(rows)
+        return rows[0]
+
+    def make(self, tag, parts, kept=None):
+        if not parts:
+            return tag
+        if kept in self.kept:
+            self.kept.remove(kept)
+            self.anew += 1
+        else:
+            if len(self.rows) + len(self.kept) == self.size:
+                insist(self.row or self.kept)
+                if self.row:
+                    self.work(1)
+                else:
+                    self.kept.remove(min(self.kept))
+            kept = self.fresh
+            self.fresh += 1
+        self.rows.append([kept, tag, list(parts), 1])
+        self.peak = max(self.peak, len(self.rows))
+        return ("box", kept)
+
+    def hold(self, value):
+        if isinstance(value, tuple):
+            self.found(value)[3] += 1
+
+    def let_go(self, value):
+        if isinstance(value, tuple):
+            row = self.found(value)
+            row[3] -= 1
+            if row[3] == 0:
+                self.row.append(row[0])
+                if not self.slow:
+                    self.work(1)
+
+    def look(self, value):
+        if isinstance(value, tuple):
+            return (self.found(value)[1], list(self.found(value)[2]))
+        return (value if isinstance(value, str) else "", [])
+
+    def take(self, value, keep=False):
+        if not isinstance(value, tuple):
+            return ([], None)
+        row = self.found(value)
+        if row[3] > 1:
+            row[3] -= 1
+            for part in row[2]:
+                self.hold(part)
+            return (list(row[2]), None)
+        self.rows.remove(row)
+        self.kept += [row[0]] if keep else []
+        return (list(row[2]), row[0] if keep else None)
+
+    def loose(self, kept):
+        self.kept = [one for one in self.kept if one != kept]
+
+    def work(self, many):
+        done = 0
+        while done < many and self.row:
+            at = self.row.pop(0)
+            row = [row for row in self.rows if row[0] == at][0]
+            self.rows.remove(row)
+            for part in row[2]:
+                self.let_go(part)
+            done += 1
+        return done
+
+    def state(self):
+        return (
+            self.size, self.fresh, self.anew, self.peak, sorted(tuple(row) for row in self.rows), sorted(self.kept), self.row
+        )
+
+
+def heap_state(heap):
+    return (heap.size, heap.fresh, heap.anew, heap.peak, heap.boxes(), heap.keeping(), heap.waits())
+
+
+class HeapDriver:
+    """Asks a heap and a PlainHeap the same by chance, holding what they give, and tells whether they differ."""
+
+    def __init__(self, test, heap, other, seed):
+        self.test, self.heap, self.other = test, heap, other
+        self.chance = random.Random(seed)
+        self.hands = [3, -1, "nil"]
+        self.kept = [None]
+
+    def both(self, method, *given):
+        """What both answer, or Broken where both refuse; nothing is changed then."""
+        before = heap_state(self.heap)
+        try:
+            wanted = getattr(self.other, method)(*given)
+        except Broken:
+            self.test.assertRaises((Full, Gone), getattr(self.heap, method), *given)
+            self.test.assertEqual(heap_state(self.heap), before)
+            return Broken
+        found = getattr(self.heap, method)(*given)
+        self.test.assertEqual(found, wanted)
+        self.test.assertEqual(heap_state(self.heap), self.other.state())
+        return found
+
+    def go(self):
+        how = self.chance.choice(("make", "make", "make", "hold", "let_go", "let_go", "look", "take", "take", "loose", "work", "gone"))
+        if how == "make":
+            self.make()
+        elif how == "loose":
+            self.both("loose", self.chance.choice(self.kept))
+        elif how == "work":
+            self.both("work", self.chance.choice((0, 1, 2, 5)))
+        elif how == "gone":
+            self.gone()
+        elif self.hands:
+            self.held(how)
+
+    def make(self):
+        many = min(self.chance.randint(0, 4), len(self.hands))
+        places = self.chance.sample(range(len(self.hands)), many)
+        parts = [self.hands[place] for place in places]
+        found = self.both("make", self.chance.choice(("cons", "leaf", "func f 2")), parts, self.chance.choice(self.kept))
+        if found is not Broken:
+            self.hands = [value for place, value in enumerate(self.hands) if place not in places] + [found]
+
+    def gone(self):
+        at = self.chance.randrange(-1, self.heap.fresh + 2)
+        if at not in [row[0] for row in self.other.rows] or at in self.other.row:
+            method = self.chance.choice(("hold", "let_go", "look", "take"))
+            self.test.assertIs(self.both(method, ("box", at)), Broken)
+
+    def held(self, how):
+        place = self.chance.randrange(len(self.hands))
+        value = self.hands[place]
+        if how == "hold":
+            self.both("hold", value)
+            self.hands.append(value)
+        elif how == "look":
+            self.both("look", value)
+        else:
+            self.hands.pop(place)
+            if how == "let_go":
+                self.both("let_go", value)
+            else:
+                parts, kept = self.both("take", value, self.chance.choice((True, False)))
+                self.hands += parts
+                self.kept.append(kept)
