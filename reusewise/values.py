@@ -39,9 +39,13 @@ def shape(tag, known_sizes, values):
     return (tag, tuple(parts))
 
 
-# Only as many parts are gone to as are told, for a value may share its parts so often that they
-# can't all be told.
 def parts_of(value, most=100):
+    return first_parts(value, most, lambda shape_value: shape_value)
+
+
+# `shape_of` gives of what is no number a pair, its tag and parts. Only as many parts are gone to as
+# are told, for a value may share its parts so often that they can't all be told.
+def first_parts(value, most, shape_of):
     told = []
     left = [value]
     while len(left) > 0 and len(told) < most:
@@ -49,7 +53,8 @@ def parts_of(value, most=100):
         if is_whole(one):
             told.append(one)
         else:
-            told.append(one[0])
-            for part in reversed(one[1]):
+            pair = shape_of(one)
+            told.append(pair[0])
+            for part in reversed(pair[1]):
                 left.append(part)
     return told

@@ -865,3 +865,190 @@ class HeapDriver:
                 parts, kept = self.both("take", value, self.chance.choice((True, False)))
                 self.hands += parts
                 self.kept.append(kept)
+
+
+class Unpromised(Exception):
+    """Of such code nothing is promised of a run."""
+
+
+class PlainMachine:
+    """A machine on a PlainHeap, put together from [26] to [28] alone. A frame is a dict; the first one,
+    whose body is not promised, has the names still to be dropped, the last of them the answer's."""
+
+    def __init__(self, code, name, args, steps, size, stretch=0):
+        self.defs = {one[0]: one for one in code[1]}
+        self.sizes = dict(pair for kind in code[0] for pair in kind)
+        self.steps, self.done, self.stretch, self.end = steps, 0, stretch, None
+        self.heap, self.frames = PlainHeap(size, slow=stretch != 0), []
+        one = self.defs[name]
+        try:
+            values = [self.argument(list(parts)) for parts in args]
+        except Broken:
+            self.end = ("fault", "full")
+            return
+        lent = {param: value for param, own, value in zip(one[1], one[2], values) if not own}
+        self.frames = [{"left": list(lent), "wants": True, "held": lent, "lent": {}, "tokens": {}}]
+        self.begin(name, values)
+
+    def argument(self, parts):
+        first = parts.pop(0)
+        if isinstance(first, int):
+            return first
+        return self.heap.make(first, [self.argument(parts) for _ in range(self.sizes[first])])
+
+    def begin(self, name, values):
+        _, params, owns, body = self.defs[name]
+        named = list(zip(params, owns, values))
+        held = {param: value for param, own, value in named if own}
+        lent = {param: value for param, own, value in named if not own}
+        self.frames.append({"body": body, "wants": "", "held": held, "lent": lent, "tokens": {}})
+
+    def turn(self):
+        if self.end is None:
+            if self.stretch:
+                self.heap.work(self.stretch)
+            try:
+                if len(self.frames) == 1:
+                    self.first_frame(self.frames[0])
+                else:
+                    self.piece(self.frames[-1])
+            except Stopped as stop:
+                self.end = stop.args[0]
+            except Broken:
+                self.end = ("fault", "full")
+        return self.end is None
+
+    def first_frame(self, frame):
+        if frame["left"]:
+            self.heap.let_go(frame["held"].pop(frame["left"].pop(0)))
+            return
+        value = frame["answer"]
+        self.end = ("told", self.parts(value)[:100])
+        self.heap.let_go(value)
+        while self.heap.row:
+            self.heap.work(1)
+        self.frames = []
+
+    def parts(self, value, most=100):
+        if isinstance(value, int) or most <= 0:
+            return [value]
+        tag, parts = self.heap.look(value)
+        told_parts = [tag]
+        for part in parts:
+            if len(told_parts) < most:
+                told_parts += self.parts(part, most - len(told_parts))
+        return told_parts[:most]
+
+    def gone(self):
+        raise Stopped(("fault", "gone"))
+
+    def spend(self, frame, name):
+        return frame["held"].pop(name) if name in frame["held"] else self.gone()
+
+    def look(self, frame, name):
+        both = {**frame["lent"], **frame["held"]}
+        return both[name] if name in both else self.gone()
+
+    def bind(self, frame, name, value):
+        if name in frame["held"] or name in frame["lent"]:
+            raise Unpromised()
+        frame["held"][name] = value
+
+    def piece(self, frame):
+        body = frame["body"]
+        if body[0] == "give":
+            value = self.spend(frame, body[1])
+            self.frames.pop()
+            beneath = self.frames[-1]
+            if len(self.frames) == 1:
+                beneath["answer"] = value
+            else:
+                self.bind(beneath, beneath["wants"], value)
+            beneath["wants"] = ""
+            return
+        if body[0] == "let":
+            self.let(frame, body)
+            return
+        if body[0] == "if":
+            value = self.look(frame, body[1])
+            if not isinstance(value, int):
+                raise Stopped(("fault", "nonumber"))
+            frame["body"] = body[2] if value else body[3]
+        elif body[0] == "case":
+            frame["body"] = self.case(frame, body[1], body[2])
+        else:
+            if body[0] == "hold":
+                value = self.look(frame, body[2])
+                self.heap.hold(value)
+                self.bind(frame, body[1], value)
+            elif body[0] == "drop":
+                self.heap.let_go(self.spend(frame, body[1]))
+            else:
+                self.heap.loose(self.token(frame, body[1]))
+            frame["body"] = body[-1]
+
+    def token(self, frame, token):
+        return frame["tokens"].pop(token) if token in frame["tokens"] else self.gone()
+
+    def case(self, frame, name, arms):
+        value = self.look(frame, name)
+        tag, parts = self.heap.look(value)
+        found = [arm for arm in arms if arm[0] == tag]
+        if not found:
+            raise Stopped(("fault", "noshape"))
+        _, names, mode, token, within = found[0]
+        if mode == "look":
+            for part in parts:
+                self.heap.hold(part)
+        else:
+            self.spend(frame, name)
+            parts, kept = self.heap.take(value, bool(token))
+        for one, part in zip(names, parts):
+            self.bind(frame, one, part)
+        if token:
+            if mode == "look" or token in frame["tokens"]:
+                raise Unpromised()
+            frame["tokens"][token] = kept
+        return within
+
+    def let(self, frame, body):
+        deed = body[2]
+        spent, looked = spent_and_looked(body, {name: one[2] for name, one in self.defs.items()})
+        values = [self.spend(frame, name) for name in spent]
+        lent = [self.look(frame, name) for name in looked]
+        kept = self.token(frame, deed[3]) if deed[0] == "make" and deed[3] else None
+        if deed[0] == "func" and not all(self.defs[deed[1]][2]):
+            raise Unpromised()
+        if deed[0] in ("call", "ask"):
+            self.step(frame, body, values, lent)
+            return
+        if deed[0] == "num":
+            value = deed[1]
+        elif deed[0] == "op":
+            plain = [one if isinstance(one, int) else (one, ()) for one in lent]
+            value = PlainRun(((), ()), 0).op(deed[1], *plain)
+        else:
+            tag = deed[1] if deed[0] == "make" else f"func {deed[1]} {len(values)}"
+            value = self.heap.make(tag, values, kept)
+        self.bind(frame, body[1], value)
+        frame["body"] = body[3]
+
+    def step(self, frame, body, values, lent):
+        deed = body[2]
+        name = deed[1]
+        if deed[0] == "ask":
+            words = self.heap.look(values[0])[0].split()
+            many = len(self.heap.look(values[0])[1]) + len(values) - 1
+            if words[:1] != ["func"] or many != len(self.defs[words[1]][1]):
+                raise Stopped(("fault", "nofunc"))
+            name = words[1]
+        if self.done == self.steps:
+            raise Stopped(("late", self.steps))
+        self.done += 1
+        if deed[0] == "ask":
+            handed = self.heap.take(values[0])[0] + values[1:]
+        else:
+            ends = self.defs[name][2]
+            handed = [values.pop(0) if end else lent.pop(0) for end in ends]
+        frame["wants"], frame["body"] = body[1], body[3]
+        self.begin(name, handed)
