@@ -21,12 +21,17 @@ class Tokens:
                 self.taken[name] = True
         self.many = 0
 
+    def next_token(self):
+        self.many = self.many + 1
+        many = self.many
+        return f"place.{many}"
+
     # The names that holds bind are texts of any sort, so a token is looked for that is none of them.
     def new_token(self):
-        self.many = self.many + 1
-        while f"place.{self.many}" in self.taken:
-            self.many = self.many + 1
-        return f"place.{self.many}"
+        token = self.next_token()
+        while token in self.taken:
+            token = self.next_token()
+        return token
 
 
 # The arms are given their tokens ahead of those within them, which have the makes that are left.

@@ -33,7 +33,8 @@ class Putter:
     # No name of a program has a point in it, so these are new.
     def new_name(self, name):
         self.many = self.many + 1
-        return f"{name}.{self.many}"
+        many = self.many
+        return f"{name}.{many}"
 
     def is_ahead(self, name, note):
         return note[0] & self.bits[name] != 0

@@ -6,7 +6,7 @@ import random
 import re
 from fractions import Fraction
 
-from reusewise.errors import Full, Gone
+from reusewise.errors import Full, Gone, ReuseError
 
 LANGUAGE_WORDS = (
     "def kind give let if else case end num plus minus times over rest less same make call func ask"
@@ -797,6 +797,15 @@ class PlainHeap:
 
 def heap_state(heap):
     return (heap.size, heap.fresh, heap.anew, heap.peak, heap.boxes(), heap.keeping(), heap.waits())
+
+
+def heap_refuses(test, refusal, heap, method, *given):
+    before = heap_state(heap)
+    for _ in range(2):
+        with test.assertRaises(ReuseError) as caught:
+            getattr(heap, method)(*given)
+        test.assertIs(type(caught.exception), refusal)
+        test.assertEqual(heap_state(heap), before)
 
 
 class HeapDriver:

@@ -1,22 +1,16 @@
 import copy
 import unittest
 
-from reusewise.errors import Fault, Full, Gone, ReuseError
+from reusewise.errors import Full, Gone
 from reusewise.heap import Heap
-from tests.helper import HeapDriver, PlainHeap, heap_state
+from tests.helper import HeapDriver, PlainHeap, heap_refuses, heap_state
 
 NOT_BOXES = (0, 7, -3, 10 ** 29, "nil", "func f 0", "")
 
 
 class HeapTest(unittest.TestCase):
     def refused(self, refusal, heap, method, *given):
-        before = copy.deepcopy(heap_state(heap))
-        for _ in range(2):
-            with self.assertRaises(ReuseError) as caught:
-                getattr(heap, method)(*given)
-            self.assertIs(type(caught.exception), refusal)
-            self.assertNotIsInstance(caught.exception, Fault)
-            self.assertEqual(heap_state(heap), before)
+        heap_refuses(self, refusal, heap, method, *given)
 
 
 class New(HeapTest):

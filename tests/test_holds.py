@@ -302,6 +302,11 @@ class Plain(unittest.TestCase):
             ("if", "y", ("hold", "h", "x", ("give", "h")), ("let", "h", ("num", 1), ("give", "h"))),
             ("if", "y", ("give", "x"), ("let", "h", ("num", 1), ("give", "h"))),
         )
+        held_anew = ("drop", "h", ("hold", "h", "x", ("give", "h")))
+        self.told(
+            ("let", "h", ("num", 1), ("if", "y", held_anew, ("drop", "x", ("give", "h")))),
+            ("let", "h", ("num", 1), ("if", "y", ("give", "x"), ("give", "h"))),
+        )
 
     def test_names_of_several_defs_are_apart(self):
         code = ((), (

@@ -168,6 +168,12 @@ class Language(unittest.TestCase):
             if isinstance(node.value, str):
                 self.assertNotIn("%", node.value, where)
 
+    def test_texts_put_together_have_plain_names_in_them(self):
+        for node, where in nodes(ast.FormattedValue):
+            self.assertIsInstance(node.value, ast.Name, where)
+            self.assertIsNone(node.format_spec, where)
+            self.assertIn(node.conversion, (-1, ord("r")), where)
+
     def test_is_stands_beside_none_true_and_false(self):
         for node, where in nodes(ast.Compare):
             for op, right in zip(node.ops, node.comparators):

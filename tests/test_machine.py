@@ -122,7 +122,7 @@ class Begin(MachineTest):
         self.assertIsNone(machine(GIVE_X, [["nil"], [4]], size=0).end)
 
     def test_a_slow_heap_just_where_stretch_is_not_nought(self):
-        self.assertIs(type(machine(GIVE_X, [[1]]).heap), Heap)
+        self.assertIs(type(Machine((KINDS, OTHERS), "own", [[1]], 5, 5).heap), Heap)
         self.assertIs(type(machine(GIVE_X, [[1]], stretch=0).heap), Heap)
         for stretch in (1, 2, TEN):
             self.assertIs(type(machine(GIVE_X, [[1]], stretch=stretch).heap), SlowHeap)

@@ -1,20 +1,14 @@
-import copy
 import unittest
 
-from reusewise.errors import Full, Gone, ReuseError
+from reusewise.errors import Full, Gone
 from reusewise.heap import Heap
 from reusewise.slow import SlowHeap
-from tests.helper import HeapDriver, PlainHeap, heap_state
+from tests.helper import HeapDriver, PlainHeap, heap_refuses, heap_state
 
 
 class SlowTest(unittest.TestCase):
     def refused(self, refusal, heap, method, *given):
-        before = copy.deepcopy(heap_state(heap))
-        for _ in range(2):
-            with self.assertRaises(ReuseError) as caught:
-                getattr(heap, method)(*given)
-            self.assertIs(type(caught.exception), refusal)
-            self.assertEqual(heap_state(heap), before)
+        heap_refuses(self, refusal, heap, method, *given)
 
 
 class Waits(SlowTest):
