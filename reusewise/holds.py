@@ -175,9 +175,7 @@ def itself(stands, names):
 
 
 def plain_deed(deed, stands):
-    # A make's token stands behind its names.
-    other = with_names(deed, [meant(name, stands) for name in names_of(deed)])
-    return other[:3] if deed[0] == "make" else other
+    return with_names(deed, [meant(name, stands) for name in names_of(deed)])
 
 
 def plain_arms(arms, bodies):

@@ -77,6 +77,7 @@ def names_of(deed):
     return deed[2]
 
 
+# The deed with these names, as a plain one: without a make's token.
 def with_names(deed, names):
     if deed[0] == "num":
         return deed
@@ -84,7 +85,7 @@ def with_names(deed, names):
         return deed[:2] + tuple(names)
     if deed[0] == "ask":
         return ("ask", names[0], tuple(names[1:]))
-    return deed[:2] + (tuple(names),) + deed[3:]
+    return deed[:2] + (tuple(names),)
 
 
 # For each of a deed's names whether it is used up there; else it is looked at, or lent.
